@@ -31,6 +31,11 @@ func Version(v api.Version) api.Version {
 	return v
 }
 
+// Pin returns a copy of p.
+func Pin(p api.Pin) api.Pin {
+	return api.Pin{Name: strings.Clone(p.Name), Shelf: strings.Clone(p.Shelf)}
+}
+
 func entry(e api.Entry) api.Entry {
 	e.Rec = Record(e.Rec)
 	return e

@@ -84,13 +84,18 @@ func TestCopies(t *testing.T) {
 	r := s.Entries[0].Rec
 	a, b, c, d := Shelf(s), Shelf(s), Record(r), Record(r)
 	v, w := Version(r.V), Version(r.V)
+	p := api.Pin{Name: strings.Repeat("n", 3), Shelf: strings.Repeat("s", 4)}
+	x, y := Pin(p), Pin(p)
 	if !reflect.DeepEqual(a, base()) || !reflect.DeepEqual(b, base()) || !reflect.DeepEqual(s, base()) {
 		t.Errorf("Shelf of %+v: %+v", s, a)
 	}
 	if !reflect.DeepEqual(c, r) || !reflect.DeepEqual(d, r) || v != r.V || w != r.V {
 		t.Errorf("Record of %+v: %+v", r, c)
 	}
-	if !apart(s, a, b, c, d, v, w) {
+	if x != p || y != p || Pin(api.Pin{}) != (api.Pin{}) {
+		t.Errorf("Pin of %+v: %+v", p, x)
+	}
+	if !apart(s, a, b, c, d, v, w, p, x, y) {
 		t.Error("copies share memory")
 	}
 }
